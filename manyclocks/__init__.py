@@ -1,0 +1,1 @@
+"""Manyclocks: scores whose parts have each a clock of their own, led to one time."""

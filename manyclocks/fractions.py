@@ -1,0 +1,79 @@
+"""Whole numbers, and exact fractions: tuples (top, bottom) in lowest terms, bottom above nought."""
+
+NOUGHT = (0, 1)
+ONE = (1, 1)
+
+
+def is_whole(thing):
+    """Whether it is an int that is no truth."""
+    return isinstance(thing, int) and not isinstance(thing, bool)
+
+
+def is_count(thing, most):
+    """Whether it is a whole number from 1 to most."""
+    return is_whole(thing) and 1 <= thing <= most
+
+
+def is_rising(numbers):
+    """Whether each of the whole numbers, or of the texts, is above the one ahead of it."""
+    return all(low < high for low, high in zip(numbers, numbers[1:]))
+
+
+def common(one, other):
+    """The greatest whole number by which both can be divided."""
+    while other != 0:
+        one, other = other, one % other
+    return abs(one)
+
+
+def part(top, bottom):
+    """The fraction top / bottom; bottom is not 0."""
+    by = common(top, bottom)
+    if bottom < 0:
+        by = -by
+    return (top // by, bottom // by)
+
+
+def plus(one, other):
+    """The sum of two fractions."""
+    return part(one[0] * other[1] + other[0] * one[1], one[1] * other[1])
+
+
+def minus(one, other):
+    """What is left of one fraction without the other one."""
+    return part(one[0] * other[1] - other[0] * one[1], one[1] * other[1])
+
+
+def times(one, other):
+    """The product of two fractions."""
+    return part(one[0] * other[0], one[1] * other[1])
+
+
+def over(one, other):
+    """One fraction divided by the other one, which is not nought."""
+    return part(one[0] * other[1], one[1] * other[0])
+
+
+def less(one, other):
+    """Whether one fraction is less than the other one."""
+    return one[0] * other[1] < other[0] * one[1]
+
+
+def is_fraction(thing):
+    """Whether it is a fraction, of anything."""
+    if not isinstance(thing, tuple) or len(thing) != 2:
+        return False
+    top, bottom = thing
+    if not is_whole(top) or not is_whole(bottom):
+        return False
+    return bottom > 0 and common(top, bottom) == 1
+
+
+def is_from_nought(thing):
+    """Whether it is a fraction from nought up, of anything."""
+    return is_fraction(thing) and thing[0] >= 0
+
+
+def is_above_nought(thing):
+    """Whether it is a fraction above nought, of anything."""
+    return is_fraction(thing) and thing[0] > 0
