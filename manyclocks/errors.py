@@ -29,7 +29,6 @@ class NoText(ClockError):
     """A text in which no score is written; line is the first one that is wrong."""
 
     def __init__(self, line):
-        ClockError.__init__(self, f"line {line} isn't written so")
         self.line = line
 
 

@@ -67,11 +67,12 @@ def are_there(names, known):
     return all(name in known for name in names)
 
 
-def is_ringless(needs):
-    """Whether nothing needs itself by way of others; needs goes from each name to the names that it needs."""
+def are_closed(needs):
+    """Whether all that is needed is there, and nothing needs itself; needs goes from names to lists of names."""
     left = list(needs)
     done = {}
     while left:
+        # What needs a name that isn't there, or itself by way of others, is never among these.
         free = [name for name in left if are_there(needs[name], done)]
         if not free:
             return False
@@ -79,11 +80,6 @@ def is_ringless(needs):
             done[name] = True
         left = [name for name in left if name not in done]
     return True
-
-
-def are_closed(needs):
-    """Whether all that is needed is there, and nothing needs itself."""
-    return all(are_there(needs[name], needs) for name in needs) and is_ringless(needs)
 
 
 def clocks_fit(clocks, parts):
