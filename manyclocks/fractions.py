@@ -36,27 +36,38 @@ def part(top, bottom):
 
 def plus(one, other):
     """The sum of two fractions."""
-    return part(one[0] * other[1] + other[0] * one[1], one[1] * other[1])
+    # The bottoms are held against one another ahead of the sum: so a long number is seldom divided by a long one.
+    by = common(one[1], other[1])
+    top = one[0] * (other[1] // by) + other[0] * (one[1] // by)
+    more = common(top, by)
+    return (top // more, (one[1] // by) * (other[1] // more))
 
 
 def minus(one, other):
     """What is left of one fraction without the other one."""
-    return part(one[0] * other[1] - other[0] * one[1], one[1] * other[1])
+    return plus(one, (-other[0], other[1]))
 
 
 def times(one, other):
     """The product of two fractions."""
-    return part(one[0] * other[0], one[1] * other[1])
+    falling = common(one[0], other[1])
+    rising = common(other[0], one[1])
+    return ((one[0] // falling) * (other[0] // rising), (one[1] // rising) * (other[1] // falling))
 
 
 def over(one, other):
     """One fraction divided by the other one, which is not nought."""
-    return part(one[0] * other[1], one[1] * other[0])
+    return times(one, part(other[1], other[0]))
 
 
 def less(one, other):
     """Whether one fraction is less than the other one."""
     return one[0] * other[1] < other[0] * one[1]
+
+
+def later(one, other):
+    """The greater one of two fractions."""
+    return other if less(one, other) else one
 
 
 def is_fraction(thing):

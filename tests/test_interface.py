@@ -3,6 +3,7 @@
 import importlib
 import inspect
 import unittest
+from pathlib import Path
 
 FUNCTIONS = {
     "fractions": {
@@ -16,6 +17,12 @@ FUNCTIONS = {
     "walks": {"walk": ["score", "name"], "unfolded": ["score", "name"]},
     "paces": {"span": ["marks", "one", "other"], "reach": ["marks", "place", "span"]},
     "clocks": {"time_at": ["score", "on", "place"], "place_at": ["score", "on", "time"]},
+    "times": {
+        "waits": ["score", "gives"], "early": ["score", "gives", "name", "place"],
+        "late": ["score", "gives", "name", "place"],
+    },
+    "timepapers": {"paper": ["score", "gives"], "shows_times": ["score", "gives", "paper"]},
+    "standing": {"why": ["score", "gives"]},
 }
 
 
@@ -27,15 +34,17 @@ class Interface(unittest.TestCase):
                 found = inspect.signature(getattr(told, name)).parameters
                 self.assertEqual(list(found), arguments, f"{module}.{name}")
 
-    def test_readme_example(self):
-        from pathlib import Path
+    def test_readme_examples(self):
         text = (Path(__file__).resolve().parent.parent / "README.md").read_text()
-        example = text.split("```python\n")[1].split("```")[0]
         names = {}
-        exec(example, names)
-        self.assertEqual(names["walk"](names["score"], "flute"), [0, 1, 0, 1])
-        self.assertEqual(names["time_at"](names["score"], "slow", (3, 1)), (6, 1))
-        self.assertEqual(names["place_at"](names["score"], "slow", (7, 1)), (7, 2))
+        examples = [piece.split("```")[0] for piece in text.split("```python\n")[1:]]
+        rows = [row.partition("# tells ") for example in examples for row in example.split("\n")]
+        for example in examples:
+            exec(example, names)
+        told = [(asked, worth) for asked, sign, worth in rows if sign]
+        self.assertGreater(len(told), 3)
+        for asked, worth in told:
+            self.assertEqual(eval(asked, names), eval(worth, names), asked)
 
 
 if __name__ == "__main__":

@@ -60,6 +60,11 @@ def imported(tree):
     return [(node.module, alias.name) for node in tree.body if isinstance(node, ast.ImportFrom) for alias in node.names]
 
 
+def own_methods(tree):
+    classes = [node for node in tree.body if isinstance(node, ast.ClassDef)]
+    return [row for node in classes for row in node.body if isinstance(row, ast.FunctionDef)]
+
+
 def top_names(tree):
     told = []
     for node in tree.body:
@@ -156,9 +161,9 @@ class Names(unittest.TestCase):
             self.assertEqual(outer & set(inner), set(), name)
 
     def test_builtins_and_methods_that_are_allowed(self):
+        methods = {row.name for name, tree in trees() for row in own_methods(tree)}
         for name, tree in trees():
             own = set(bound_names(tree)) | {what for module, what in imported(tree)}
-            methods = {node.name for node in ast.walk(tree) if isinstance(node, ast.FunctionDef)}
             for node in ast.walk(tree):
                 if isinstance(node, ast.Name) and node.id not in own:
                     self.assertIn(node.id, BUILTINS, f"{name}:{node.lineno}")
@@ -168,9 +173,8 @@ class Names(unittest.TestCase):
     def test_no_method_is_an_attribute_elsewhere(self):
         methods, attributes = set(), set()
         for name, tree in trees():
+            methods |= {row.name for row in own_methods(tree)}
             for node in ast.walk(tree):
-                if isinstance(node, ast.ClassDef):
-                    methods |= {row.name for row in node.body if isinstance(row, ast.FunctionDef)}
                 if isinstance(node, ast.Attribute) and isinstance(node.ctx, ast.Store):
                     attributes.add(node.attr)
         self.assertEqual(methods & attributes, set())
