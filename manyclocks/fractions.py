@@ -70,6 +70,35 @@ def later(one, other):
     return other if less(one, other) else one
 
 
+def earlier(one, other):
+    """The less one of two fractions."""
+    return one if less(one, other) else other
+
+
+def order_of(fraction):
+    """A tuple of whole numbers: of two fractions the less one has the less tuple, so they can be sorted by it."""
+    top, bottom = fraction
+    told = []
+    # The fraction is a + 1 / (b + 1 / (c + ..)): it grows with a and c, and falls as b grows.
+    sign = 1
+    while bottom != 0:
+        whole = top // bottom
+        told.append(sign * whole)
+        top, bottom = bottom, top - whole * bottom
+        sign = -sign
+    # A tuple that goes on counts as greater, which is right behind an odd number of terms: so of an even one the last
+    # term, b, is told as b - 1 and 1, for b is (b - 1) + 1 / 1.
+    if len(told) % 2 == 0:
+        told[-1] += 1
+        told.append(1)
+    return tuple(told)
+
+
+def time_order(time):
+    """A tuple by which times can be sorted, None behind all."""
+    return (1,) if time is None else (0, order_of(time))
+
+
 def is_fraction(thing):
     """Whether it is a fraction, of anything."""
     if not isinstance(thing, tuple) or len(thing) != 2:

@@ -3,7 +3,9 @@ from fractions import Fraction
 
 from making import fraction, odd_things, pair, plain_things
 
-from manyclocks.fractions import is_fraction, less, minus, over, part, plus, times
+from manyclocks.fractions import (
+    earlier, is_fraction, later, less, minus, order_of, over, part, plus, time_order, times,
+)
 
 BIG = 7 ** 400
 SOME = [pair(Fraction(top, bottom)) for top in range(-7, 8) for bottom in range(1, 7)]
@@ -77,6 +79,23 @@ class Less(unittest.TestCase):
         self.assertIs(less((-1, 3), (1, 3)), True)
         self.assertIs(less((1, 3), (1, 3)), False)
         self.assertIs(less((BIG, BIG + 1), (BIG + 1, BIG + 2)), True)
+
+
+class Orders(unittest.TestCase):
+    def test_earlier_and_later(self):
+        self.assertEqual([earlier((1, 3), (1, 2)), earlier((1, 2), (1, 3))], [(1, 3), (1, 3)])
+        self.assertEqual([later((1, 3), (1, 2)), later((1, 2), (1, 3))], [(1, 2), (1, 2)])
+
+    def test_order_of_fractions(self):
+        worths = {Fraction(top, bottom) for top in range(-30, 61) for bottom in range(1, 25)}
+        worths |= {fraction(one) for one in SOME} | {Fraction(BIG, BIG - 1), Fraction(BIG + 1, BIG)}
+        orders = [order_of(pair(worth)) for worth in sorted(worths)]
+        for low, high in zip(orders, orders[1:]):
+            self.assertLess(low, high)
+
+    def test_none_is_behind_all(self):
+        times_there = [None, (1, 2), (0, 1), None, (1, 3), (BIG, 1)]
+        self.assertEqual(sorted(times_there, key=time_order), [(0, 1), (1, 3), (1, 2), (BIG, 1), None, None])
 
 
 class IsFraction(unittest.TestCase):

@@ -23,6 +23,11 @@ FUNCTIONS = {
     },
     "timepapers": {"paper": ["score", "gives"], "shows_times": ["score", "gives", "paper"]},
     "standing": {"why": ["score", "gives"]},
+    "sounds": {"sounds": ["score", "gives"]},
+    "rows": {"row": ["score", "gives", "name", "voice"]},
+    "meetings": {"parting": ["score", "gives"]},
+    "stretches": {"stretch": ["told", "one", "other"]},
+    "places": {"where": ["score", "gives", "name", "time"], "begin_of": ["score", "gives", "name", "number"]},
 }
 
 
