@@ -41,8 +41,9 @@ def route_of(score, part):
     entries = line(score, name)
     bars = [(at, entries[at][1]) for at in walked(entries)]
     route = Route(on, begin, bars)
-    # A bar is walked over and over, but its marks are always the same.
-    marks = {at: marks_of(bar) for at, bar in bars}
+    # A bar may be walked over and over, but its marks are always the same.
+    unlike = dict(bars)
+    marks = {at: marks_of(unlike[at]) for at in unlike}
     for number, (at, bar) in enumerate(bars):
         route.put_bar(number, bar, marks[at])
     return route

@@ -8,8 +8,9 @@ from manyclocks.items import item_length
 
 def placed_voice(route, voice):
     """The tones and rests of a voice as they are walked: (begin, end, item), places of the walk."""
-    # A bar is walked over and over, but its items are always the same.
-    rows = {at: voice_of(bar, voice) for at, bar in route.bars}
+    # A bar may be walked over and over, but its items are always the same.
+    unlike = dict(route.bars)
+    rows = {at: voice_of(unlike[at], voice) for at in unlike}
     told = []
     for (at, bar), begin in zip(route.bars, route.begins):
         for offset, item in rows[at]:
@@ -24,10 +25,9 @@ def joined(rows):
     tied = False
     for begin, end, item in rows:
         if item[0] == "rest":
-            tied = False
             continue
         word, pitches, length, goes_on, held = item
-        # Where a bar lacks the voice, the next tone doesn't begin where the last one ends.
+        # Behind a rest, or a bar that lacks the voice, a tone doesn't begin where the last one ends.
         if tied and told[-1][1:3] == (begin, pitches):
             told[-1] = (told[-1][0], end, pitches, held)
         else:
