@@ -2,7 +2,7 @@
 
 from fractions import Fraction
 
-from manyclocks.bars import marks_of
+from manyclocks.bars import marks_of, voice_of
 from manyclocks.clocks import place_at, time_at
 from manyclocks.items import length_of
 from manyclocks.lines import line
@@ -229,6 +229,17 @@ def walked_marks(handed, name):
     return told, place
 
 
+def stops_with_probes(marks, places):
+    """The calls, waits and meetings of a walk, with the probes of these places."""
+    stops = [row for row in marks if row[1][0] not in ("pace", "lean")]
+    for place in sorted(fraction(place) for place in places):
+        ahead = len([row for row in stops if row[0] < place])
+        stops.insert(ahead, (place, ("early", place), None))
+        behind = len([row for row in stops if row[0] <= place])
+        stops.insert(behind, (place, ("late", place), None))
+    return stops
+
+
 class Stage:
     """Plays a score moment by moment, as a plain looker would: whoever comes somewhere first is moved first.
 
@@ -242,12 +253,7 @@ class Stage:
         for name, on, begin, things in handed[2]:
             marks, length = walked_marks(handed, name)
             paces = [(pair(at), mark) for at, mark, number in marks if mark[0] in ("pace", "lean")]
-            stops = [row for row in marks if row[1][0] not in ("pace", "lean")]
-            for place in sorted(fraction(place) for place in dict(probes).get(name, ())):
-                ahead = len([row for row in stops if row[0] < place])
-                stops.insert(ahead, (place, ("early", place), None))
-                behind = len([row for row in stops if row[0] <= place])
-                stops.insert(behind, (place, ("late", place), None))
+            stops = stops_with_probes(marks, dict(probes).get(name, ()))
             self.log[name] = []
             self.parts[name] = {"on": on, "under": begin, "place": NOUGHT, "paces": paces, "stops": stops,
                                 "next": None, "waits": {}}
@@ -313,6 +319,182 @@ class Stage:
         """When the probe, early or late, was come to, None where it wasn't."""
         rows = [pair(row[3]) for row in self.log[name] if row[1] == (word, fraction(place))]
         return rows[0] if rows else None
+
+
+class Mover:
+    """A clock, or a part, that moves on from place to place; its place is None ahead of its begin."""
+
+    def __init__(self, on, begin, marks, stops=None):
+        self.on, self.begin, self.marks, self.stops = on, fraction(begin), marks, stops
+        self.place, self.plain, self.changed, self.held = None, Fraction(1), None, None
+        self.waits = {}
+
+    def is_moving(self):
+        return self.place is not None and self.held is None and self.stops != []
+
+    def beat(self):
+        """How long its beat is where it is."""
+        behind = [row for row in self.marks if row[0] <= self.place]
+        if self.changed and not [row for row in behind if row[0] > self.changed[0]]:
+            return self.changed[1]
+        if not behind:
+            return self.plain
+        place, mark = behind[-1]
+        if mark[0] == "pace":
+            return fraction(mark[1])
+        low, high, many = fraction(mark[1]), fraction(mark[2]), mark[3]
+        return low + (high - low) * min((self.place - place) // 1, many) / many
+
+    def goals(self):
+        """Places further on at which its beat may change or at which it has something to do."""
+        told = [row[0] for row in self.marks] + [row[0] for row in self.stops or ()]
+        told += [row[0] + (self.place - row[0]) // 1 + 1 for row in self.marks if row[1][0] == "lean"
+                 and row[0] <= self.place < row[0] + row[1][3]]
+        return [place for place in told if place > self.place]
+
+
+class Hall(Stage):
+    """Plays a score with changes by speeds: all moves on up to the next moment at which any speed may change."""
+
+    def __init__(self, handed, changes, probes=()):
+        self.log, self.given, self.now, self.names = {}, {}, Fraction(0), []
+        self.movers = {None: Mover(None, NOUGHT, [])}
+        self.movers[None].place = Fraction(0)
+        for name, on, begin, marks in handed[0]:
+            self.movers["clock", name] = Mover(on, begin, [(fraction(place), mark) for place, mark in marks])
+        for name, on, begin, things in handed[2]:
+            marks, length = walked_marks(handed, name)
+            paces = [row[:2] for row in marks if row[1][0] in ("pace", "lean")]
+            stops = stops_with_probes(marks, [*dict(probes).get(name, ()), pair(length)])
+            self.movers["part", name] = Mover(on, begin, paces, stops)
+            self.log[name] = []
+            self.names.append(name)
+        self.play(list(changes))
+
+    def under(self, mover):
+        return self.movers[None if mover.on is None else ("clock", mover.on)]
+
+    def speed(self, mover):
+        if not mover.is_moving():
+            return 0
+        return 1 if mover == self.movers[None] else self.speed(self.under(mover)) / mover.beat()
+
+    def ahead(self):
+        """How long it is to the next moments."""
+        told = []
+        for mover in list(self.movers.values())[1:]:
+            if mover.place is None and self.speed(self.under(mover)):
+                told.append((mover.begin - self.under(mover).place) / self.speed(self.under(mover)))
+            elif mover.is_moving() and self.speed(mover) and mover.goals():
+                told.append((min(mover.goals()) - mover.place) / self.speed(mover))
+        return told
+
+    def play(self, changes):
+        self.settle()
+        while changes or self.ahead():
+            step = min(self.ahead() + [fraction(change[0]) - self.now for change in changes[:1]])
+            speeds = [(mover, self.speed(mover)) for mover in self.movers.values()]
+            for mover, speed in speeds:
+                if speed:
+                    mover.place += speed * step
+            self.now += step
+            self.settle()
+            while changes and fraction(changes[0][0]) == self.now:
+                self.change(*changes.pop(0)[1])
+                self.settle()
+
+    def change(self, word, name, what):
+        if word == "give":
+            if name not in self.names:
+                self.given[name, what] = self.given.get((name, what), 0) + 1
+            return
+        mover = self.movers["part" if word == "pace" else "clock", name]
+        if mover.place is None:
+            mover.plain = fraction(what)
+        elif mover.stops != []:
+            mover.changed = (mover.place, fraction(what))
+
+    def settle(self):
+        """Whoever begins begins, and whoever is at something does it, until nothing is left to do now."""
+        done = True
+        while done:
+            done = False
+            for mover in list(self.movers.values())[1:]:
+                under = self.under(mover).place
+                if mover.place is None and under is not None and under >= mover.begin:
+                    mover.place, done = Fraction(0), True
+            for name in self.names:
+                while self.does_one(name, self.movers["part", name]):
+                    done = True
+
+    def does_one(self, name, mover):
+        if mover.held:
+            key, number = mover.held
+            if self.given.get(key, 0) < number:
+                return False
+            mover.held = None
+            self.log[name][-1] = (*self.log[name][-1][:4], self.now)
+            return True
+        if not mover.stops or mover.place != mover.stops[0][0]:
+            return False
+        place, mark, number = mover.stops.pop(0)
+        self.log[name].append((place, mark, number, self.now, self.now))
+        if mark[0] == "call":
+            self.given[name, mark[1]] = self.given.get((name, mark[1]), 0) + 1
+        if mark[0] == "wait":
+            mover.waits[mark[1:]] = mover.waits.get(mark[1:], 0) + 1
+            mover.held = (mark[1:], mover.waits[mark[1:]])
+            self.log[name][-1] = (place, mark, number, self.now, None)
+        return True
+
+
+def plain_voice(handed, name, voice):
+    """The items of a voice bar by bar: (place, end, item), [] of a bar that lacks it."""
+    entries = line(handed, name)
+    place, told = fraction(NOUGHT), []
+    for at in walk(handed, name):
+        here = entries[at][1]
+        rows = [(place + fraction(offset), item) for offset, item in voice_of(here, voice)]
+        told.append([(begin, begin + fraction(item[2] if item[0] == "tone" else item[1]), item)
+                     for begin, item in rows])
+        place += fraction(here[1])
+    return told
+
+
+def plain_ties(bars):
+    """The items of a voice, each with that which stands next, None where the next bar lacks the voice."""
+    rows = []
+    for number, items in enumerate(bars):
+        after = bars[number + 1][0] if number + 1 < len(bars) and bars[number + 1] else None
+        rows.extend(zip(items, [*items[1:], after]))
+    return rows
+
+
+def plain_sounds(handed, gives, stage_of=Stage):
+    """All sounds: from each tone into which none goes on, step by step to the one that doesn't go on."""
+    voices = {(part_there[0], voice): plain_ties(plain_voice(handed, part_there[0], voice))
+              for part_there in handed[2] for voice in range(4)}
+    probes = {name: {pair(place) for voice in range(4) for row, after in voices[name, voice] for place in row[:2]}
+              for name, voice in voices}
+    stage = stage_of(handed, gives, probes)
+    told = []
+    for (name, voice), rows in voices.items():
+        into = {row[0]: after for row, after in rows if goes_on(row, after)}
+        begun = set(after[0] for after in into.values())
+        for first in [row for row, after in rows if row[2][0] == "tone" and row[0] not in begun]:
+            last = first
+            while last[0] in into:
+                last = into[last[0]]
+            begin = stage.probed(name, "late", pair(first[0]))
+            end = stage.probed(name, "late" if last[2][4] else "early", pair(last[1]))
+            if begin is not None:
+                told.append((begin, end, name, voice, first[2][1]))
+    return sorted(told, key=lambda row: (fraction(row[0]), row[1] is None, row[1] and fraction(row[1]), *row[2:]))
+
+
+def goes_on(row, after):
+    item = row[2]
+    return item[0] == "tone" and item[3] and after is not None and after[2][:2] == ("tone", item[1])
 
 
 def some_mark(chance, names):
@@ -399,3 +581,19 @@ def some_gives(chance):
     """Gives of "z", which is no part, and of "a", which is one."""
     times = sorted(Fraction(chance.randrange(40), chance.choice([1, 2, 3])) for _ in range(chance.randrange(8)))
     return [(pair(time), chance.choice("zzza"), chance.choice("xy")) for time in times]
+
+
+def some_changes(chance, handed, most=9):
+    """Changes of the parts and clocks of a score that some_score made, and gives of "z"; often several at one time."""
+    names = [row[0] for row in handed[2]]
+    clocks = [row[0] for row in handed[0]]
+    time, told = Fraction(0), []
+    for _ in range(chance.randrange(most)):
+        time += chance.choice([0, 0, Fraction(1, 7), Fraction(1, 2), 1, Fraction(5, 3), 2])
+        beat = pair(Fraction(chance.choice([1, 2, 3, 5]), chance.choice([1, 2, 7])))
+        word = chance.choice(["give", "pace", "pace", "clock"])
+        if word == "give":
+            told.append((pair(time), ("give", "z", chance.choice("xy"))))
+        else:
+            told.append((pair(time), (word, chance.choice(names if word == "pace" else clocks), beat)))
+    return told

@@ -1,5 +1,6 @@
 """The names and arguments that the interface lists."""
 
+import ast
 import importlib
 import inspect
 import unittest
@@ -28,6 +29,15 @@ FUNCTIONS = {
     "meetings": {"parting": ["score", "gives"]},
     "stretches": {"stretch": ["told", "one", "other"]},
     "places": {"where": ["score", "gives", "name", "time"], "begin_of": ["score", "gives", "name", "number"]},
+    "changes": {"played": ["score", "changes"]},
+    "drawing": {"drawn": ["score", "names"], "together": ["scores"], "wants": ["score", "gives", "names"]},
+    "written": {"written": ["score", "name"], "nexts": ["score", "name"]},
+}
+# Module -> class -> method -> arguments; __init__ has those with which it is made.
+CLASSES = {
+    "players": {
+        "Player": {"__init__": ["score"], "now": [], "go": ["time"], "change": ["deed"], "changes": []},
+    },
 }
 
 
@@ -39,17 +49,29 @@ class Interface(unittest.TestCase):
                 found = inspect.signature(getattr(told, name)).parameters
                 self.assertEqual(list(found), arguments, f"{module}.{name}")
 
+    def test_classes_and_their_own_methods(self):
+        for module, classes in CLASSES.items():
+            told = importlib.import_module(f"manyclocks.{module}")
+            for name, methods in classes.items():
+                for method, arguments in methods.items():
+                    found = inspect.signature(vars(getattr(told, name))[method]).parameters
+                    self.assertEqual(list(found)[1:], arguments, f"{module}.{name}.{method}")
+
     def test_readme_examples(self):
         text = (Path(__file__).resolve().parent.parent / "README.md").read_text()
-        names = {}
         examples = [piece.split("```")[0] for piece in text.split("```python\n")[1:]]
-        rows = [row.partition("# tells ") for example in examples for row in example.split("\n")]
+        names, many = {}, 0
         for example in examples:
-            exec(example, names)
-        told = [(asked, worth) for asked, sign, worth in rows if sign]
-        self.assertGreater(len(told), 3)
-        for asked, worth in told:
-            self.assertEqual(eval(asked, names), eval(worth, names), asked)
+            rows = example.split("\n")
+            for node in ast.parse(example).body:
+                asked = ast.unparse(node)
+                worth = rows[node.end_lineno - 1].partition("# tells ")[2]
+                if worth:
+                    self.assertEqual(eval(asked, names), eval(worth, names), asked)
+                    many += 1
+                else:
+                    exec(asked, names)
+        self.assertGreater(many, 3)
 
 
 if __name__ == "__main__":

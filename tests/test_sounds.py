@@ -3,64 +3,17 @@ import random
 import unittest
 
 from making import (
-    HALF, NOUGHT, ONE, TWO, Stage, bar, call, clock, filled, fraction, group, lean, meet, one_part, pace, pair, part,
-    repeat, rest, score, sign, some_gives, some_score, tone, turn, use, voiced, wait, whole,
+    HALF, NOUGHT, ONE, TWO, bar, call, clock, filled, group, lean, meet, one_part, pace, part, plain_sounds, repeat,
+    rest, score, sign, some_gives, some_score, tone, turn, use, voiced, wait, whole,
 )
 
-from manyclocks.bars import voice_of
 from manyclocks.errors import TooLong
-from manyclocks.lines import line
 from manyclocks.scores import checked
 from manyclocks.sounds import sounds
-from manyclocks.walks import walk
 
 
 def tied(pitch=60, length=ONE, held=False):
     return tone(pitch, length, True, held)
-
-
-def plain_voice(handed, name, voice):
-    """The items of a voice bar by bar: (place, end, item), [] of a bar that lacks it."""
-    entries = line(handed, name)
-    place, told = fraction(NOUGHT), []
-    for at in walk(handed, name):
-        here = entries[at][1]
-        rows = [(place + fraction(offset), item) for offset, item in voice_of(here, voice)]
-        told.append([(begin, begin + fraction(item[2] if item[0] == "tone" else item[1]), item)
-                     for begin, item in rows])
-        place += fraction(here[1])
-    return told
-
-
-def plain_sounds(handed, gives):
-    """All sounds: from each tone into which none goes on, step by step to the one that doesn't go on."""
-    told = []
-    for name in [row[0] for row in handed[2]]:
-        for voice in range(4):
-            bars = plain_voice(handed, name, voice)
-            # Which item stands next: None where the next bar lacks the voice.
-            rows = []
-            for number, items in enumerate(bars):
-                after = bars[number + 1][0] if number + 1 < len(bars) and bars[number + 1] else None
-                rows.extend(zip(items, [*items[1:], after]))
-            into = {row[0]: after for row, after in rows if goes_on(row, after)}
-            begun = set(after[0] for after in into.values())
-            places = {pair(place) for row, after in rows for place in row[:2]}
-            stage = Stage(handed, gives, {name: places})
-            for first in [row for row, after in rows if row[2][0] == "tone" and row[0] not in begun]:
-                last = first
-                while last[0] in into:
-                    last = into[last[0]]
-                begin = stage.probed(name, "late", pair(first[0]))
-                end = stage.probed(name, "late" if last[2][4] else "early", pair(last[1]))
-                if begin is not None:
-                    told.append((begin, end, name, voice, first[2][1]))
-    return sorted(told, key=lambda row: (fraction(row[0]), row[1] is None, row[1] and fraction(row[1]), *row[2:]))
-
-
-def goes_on(row, after):
-    item = row[2]
-    return item[0] == "tone" and item[3] and after is not None and after[2][:2] == ("tone", item[1])
 
 
 class Sounds(unittest.TestCase):
