@@ -200,6 +200,11 @@ class Clocks(Changes):
         self.assertEqual([row for row in told if row[2] in "cd"], [row for row in before if row[2] in "cd"])
         self.assertEqual([row[:3] for row in told if row[2] in "ab"], [(NOUGHT, TWO, "a"), (TWO, whole(3), "b")])
 
+    def test_a_part_and_a_clock_of_one_name_ahead_of_their_begins(self):
+        handed = score(part("k", filled(pace(TWO), tone()), on="k"), clocks=[clock("k", None, TWO, (NOUGHT, pace(TWO)))])
+        for changes in [[to_clock(ONE, HALF), to_pace(ONE, HALF, "k")], [to_pace(ONE, HALF, "k"), to_clock(ONE, HALF)]]:
+            self.assertEqual(self.begins(handed, *changes, name="k"), [2, 6])
+
     def test_while_what_hangs_on_it_is_held(self):
         handed = score(part("a", filled(tone(), wait("z", "x"), tone(), tone()), on="k"), clocks=[clock("k")])
         changes = to_clock(TWO, whole(4)), to_give(whole(3)), to_clock(whole(5), ONE)
