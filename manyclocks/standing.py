@@ -26,8 +26,12 @@ def reason(course, counts, name):
     return ("ring", tuple(names))
 
 
-def why(score, gives):
-    """Why each part stands that stands for ever, by its name."""
-    course = led(score, gives)
+def why_of(course):
+    """Why each part stands that stands for ever on a course, by its name."""
     counts = call_counts(course)
     return {name: reason(course, counts, name) for name in course.runs if course.wanted(name) is not None}
+
+
+def why(score, gives):
+    """Why each part stands that stands for ever, by its name."""
+    return why_of(led(score, gives))

@@ -1,5 +1,6 @@
 """Makes the scores and things that the tests hand in."""
 
+import heapq
 from fractions import Fraction
 
 from manyclocks.bars import marks_of, voice_of
@@ -596,4 +597,54 @@ def some_changes(chance, handed, most=9):
             told.append((pair(time), ("give", "z", chance.choice("xy"))))
         else:
             told.append((pair(time), (word, chance.choice(names if word == "pace" else clocks), beat)))
+    return told
+
+
+def steps_of(rows, behind, heard_row, state):
+    """All steps from a state (i, v) of hearing: (step, cost, state that it leads to)."""
+    index, number = state
+    told = []
+    goals = behind[number] if number < len(rows) else []
+    for goal in goals:
+        told.append((("miss", number), 2, (index, goal)))
+    if index < len(heard_row):
+        told.append((("more", index), 2, (index + 1, number)))
+        for goal in goals:
+            cost = (heard_row[index][0] != rows[number][0]) + (heard_row[index][1] != rows[number][1])
+            told.append((("hear", index, number), cost, (index + 1, goal)))
+    return told
+
+
+def plain_cost(rows, behind, heard_row):
+    """The least cost that any way of a heard row has: ways are gone on from the cheapest one on."""
+    left = [(0, (0, number)) for number in range(len(rows) + 1)]
+    seen = set()
+    while True:
+        cost, state = heapq.heappop(left)
+        if state[0] == len(heard_row):
+            return cost
+        if state not in seen:
+            seen.add(state)
+            for step, more, goal in steps_of(rows, behind, heard_row, state):
+                heapq.heappush(left, (cost + more, goal))
+
+
+def some_heard(chance, rows, behind):
+    """Some written things, walked from anywhere on, with things left out, put in and taken for others."""
+    told = []
+    number = chance.randrange(len(rows) + 1)
+    while number < len(rows) and len(told) < 8:
+        told.append(rows[number][:2])
+        number = chance.choice(behind[number])
+    for _ in range(chance.choice([0, 0, 1, 2, 4])):
+        at = chance.randrange(len(told) + 1)
+        other = (chance.choice([(), (60,), (61, 70)]), chance.choice([ONE, HALF, (1, 3)]))
+        word = chance.choice(["out", "in", "pitches", "length", "both"])
+        if word == "in":
+            told.insert(at, other)
+        elif told and word == "out":
+            del told[at % len(told)]
+        elif told:
+            there = told[at % len(told)]
+            told[at % len(told)] = (there[0] if word == "length" else other[0], there[1] if word == "pitches" else other[1])
     return told

@@ -32,9 +32,14 @@ FUNCTIONS = {
     "changes": {"played": ["score", "changes"]},
     "drawing": {"drawn": ["score", "names"], "together": ["scores"], "wants": ["score", "gives", "names"]},
     "written": {"written": ["score", "name"], "nexts": ["score", "name"]},
+    "hearing": {"heard": ["score", "name", "row"]},
+    "heardpapers": {"shows_heard": ["score", "name", "row", "told"]},
+    "reading": {"read_score": ["text"]},
+    "showing": {"show_score": ["score"]},
 }
 # Module -> class -> method -> arguments; __init__ has those with which it is made.
 CLASSES = {
+    "desk": {"Desk": {"__init__": ["text"], "say": ["line"]}},
     "players": {
         "Player": {"__init__": ["score"], "now": [], "go": ["time"], "change": ["deed"], "changes": []},
     },

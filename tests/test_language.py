@@ -16,7 +16,7 @@ BUILTINS = set(
 METHODS = set(
     "append clear copy count endswith extend find get index insert isalnum isalpha isdigit islower isspace isupper"
     " items join keys ljust lower lstrip partition pop remove replace reverse rfind rjust rpartition rsplit rstrip"
-    " setdefault split splitlines startswith strip update upper values zfill bit_length __init__".split()
+    " setdefault split splitlines startswith strip update upper values zfill bit_length removesuffix __init__".split()
 )
 NO_WORDS = set(
     "type typing typing_extensions enum Enum IntEnum StrEnum Flag IntFlag Generic Protocol ABC ABCMeta namedtuple"
