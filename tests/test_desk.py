@@ -168,7 +168,7 @@ class Refusals(Answers):
 
     def test_lines_of_nothing_and_of_other_words(self):
         self.refused(NoLine, ["", " ", "help", "Now", "NOW", "stop", "to 1", "events", "g", "go1", "nows", "\n", "now\n",
-                              "now\nnow", "part a on time from 0", "draw", "walk", "where", "row", "hear", "go", "give",
+                              "now\nnow", "heard a 60:1", "play a 60:1", "part a on time from 0", "draw", "walk", "where", "row", "hear", "go", "give",
                               "pace", "clock", "end"])
 
     def test_blanks_and_words_too_many_or_too_few(self):
@@ -215,6 +215,12 @@ class Refusals(Answers):
 
     def test_a_name_of_another_sort_may_give(self):
         self.says(self.desk, ("give k x", "ok"), ("give p x", "ok"))
+
+    def test_names_that_are_words_of_the_desk(self):
+        self.says(self.desk, ("give z now", "ok"), ("give now give", "ok"), ("give go clock", "ok"))
+        text = "clock stands on time from 0\npart meets on stands from 0\nend\npart now on time from 0\nend"
+        self.says(Desk(text), ("pace now 1", "ok"), ("clock stands 2", "ok"), ("where meets 0", "-"), ("walk now", "-"),
+                  ("draw now", "part now on time from 0\nend"), ("hear meets 1:1", "2"), ("row now 0", "-"))
 
 
 class Made(unittest.TestCase):

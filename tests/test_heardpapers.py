@@ -4,7 +4,7 @@ import unittest
 
 from making import (
     HALF, ONE, bar, filled, odd_things, one_part, part, plain_things, rest, score, sign, some_heard, some_score, spoilt,
-    spots, tone, turn, use,
+    spots, steps_of, tone, turn, use,
 )
 
 from manyclocks.errors import TooLong
@@ -77,6 +77,21 @@ class Shown(Papers):
         self.refuses((0, way, ((0,) * 6,) * 7))
 
 
+def costs_without(word, rows, behind, row):
+    """The least costs of all states, and a way of the least one of the last row, by steps of other words alone."""
+    states = [(index, number) for index in range(len(row) + 1) for number in range(len(rows) + 1)]
+    costs = {state: 0 if state[0] == 0 else 1000 for state in states}
+    ways = {state: () for state in states}
+    for _ in range(len(states)):
+        for state in states:
+            for step, more, goal in steps_of(rows, behind, row, state):
+                if step[0] != word and costs[state] + more < costs[goal]:
+                    costs[goal], ways[goal] = costs[state] + more, (*ways[state], step)
+    last = min(states[-len(rows) - 1:], key=lambda state: costs[state])
+    table = tuple(tuple(costs[index, number] for number in range(len(rows) + 1)) for index in range(len(row) + 1))
+    return costs[last], ways[last], table
+
+
 class Refused(Papers):
     def setUp(self):
         self.cost, self.way, self.table = heard(HANDED, "a", ROW)
@@ -95,6 +110,37 @@ class Refused(Papers):
         way = tuple(("more", index) for index in range(6))
         self.refuses((12, way, self.table))
         self.refuses((4, way, self.table))
+
+    def test_tables_that_forget_a_word(self):
+        handed = one_part(*[bar(number) for number in range(1, 13)])
+        rows, behind = written(handed, "a"), nexts(handed, "a")
+        fewer = [((number,), ONE) for number in [1, 2, 3, 4, 5, 8, 9, 10, 11, 12]]
+        more = [((number,), ONE) for number in [1, 2, 3, 4, 5, 20, 6, 7, 8, 9, 10]]
+        for word, row, dear in [("miss", fewer, 5), ("more", more, 6), ("hear", fewer[:3], 6)]:
+            told = costs_without(word, rows, behind, row)
+            self.assertEqual(told[0], dear)
+            self.refuses(told, row, handed)
+            # With all words, told so, it is taken.
+            told = costs_without(None, rows, behind, row)
+            self.assertLess(told[0], dear)
+            self.shows(told, row, handed)
+
+    def test_heard_things_that_are_left_over(self):
+        row = [((9,), (1, 3))]
+        cost, way, table = heard(HANDED, "a", row)
+        self.assertEqual(cost, 2)
+        self.shows((2, (("more", 0),), table), row)
+        self.refuses((2, (("miss", 0),), table), row)
+
+    def test_heard_things_that_are_not_there(self):
+        for number in range(6):
+            self.refuses((self.cost, self.way + (("hear", 6, number),), self.table))
+            self.refuses((0, (("hear", 0, number),), ((0,) * 6,)), [])
+
+    def test_the_end_is_not_heard(self):
+        row = [((), HALF), ((), HALF)]
+        self.refuses((0, (("hear", 0, 4), ("hear", 1, 5)), heard(HANDED, "a", row)[2]), row)
+        self.refuses((0, (("hear", 0, 5), ("hear", 1, 5)), heard(HANDED, "a", row)[2]), row)
 
     def test_steps_left_out_and_twice(self):
         for at in range(len(self.way)):

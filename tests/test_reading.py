@@ -2,7 +2,7 @@ import random
 import unittest
 
 from making import (
-    HALF, NOUGHT, ONE, TWO, bar, call, clock, ended, filled, group, lean, meet, odd_things, one_part, pace, part,
+    HALF, NOUGHT, ONE, TWO, bar, call, clock, ended, group, lean, meet, odd_things, one_part, pace, part,
     plain_things, repeat, rest, rich_score, score, sign, tone, turn, use, voiced, wait, whole,
 )
 
