@@ -498,6 +498,30 @@ def goes_on(row, after):
     return item[0] == "tone" and item[3] and after is not None and after[2][:2] == ("tone", item[1])
 
 
+def plain_parting(handed, gives, stage_of=Stage):
+    """The first parting, of all that a plain stage shows."""
+    stage = stage_of(handed, gives)
+    meetings = {}
+    for name in stage.log:
+        come = [row[3] for row in stage.log[name] if row[1][0] == "meet" and row[4] is not None]
+        marks = [row for row in walked_marks(handed, name)[0] if row[1][0] == "meet"]
+        for number, (place, mark, in_bar) in enumerate(marks):
+            k = [row[1] for row in marks[:number + 1]].count(mark)
+            time = come[number] if number < len(come) else None
+            meetings.setdefault((mark[1], k), []).append((time is None, time or 0, name, in_bar))
+    rows = []
+    for (word, k), comers in meetings.items():
+        comers.sort()
+        others = [row for row in comers if row[:2] != comers[0][:2]]
+        if others:
+            rows.append((comers[0][1], word, k, told_comer(comers[0]), told_comer(others[0])))
+    return min(rows)[1:] if rows else None
+
+
+def told_comer(comer):
+    return comer[2], comer[3], None if comer[0] else pair(comer[1])
+
+
 def some_mark(chance, names):
     """A call, wait, meeting, pace or lean; rather few waits, so that parts come on."""
     word = chance.choice(["call"] * 6 + ["wait"] * 3 + ["meet", "meet", "pace", "lean"])

@@ -2,7 +2,8 @@ import random
 import unittest
 
 from making import (
-    ONE, bar, fraction, odd_things, plain_things, some_changes, some_heard, some_score, whole,
+    ONE, Hall, bar, fraction, odd_things, pair, plain_parting, plain_sounds, plain_things, some_changes, some_heard,
+    some_score, walked_marks, whole,
 )
 
 from manyclocks.changes import played
@@ -254,11 +255,7 @@ class Whole(Answers):
             text = self.time_text(time)
             self.assertEqual(desk.say(f"where {name} {text}"),
                              "-" if found is None else f"{found[0]} {self.time_text(found[1])}")
-        found = parting(handed, gives)
-        told = "all" if found is None else " ".join(
-            [found[0], str(found[1]), *[str(word) if not isinstance(word, tuple) and word is not None
-                                        else self.time_text(word) for side in found[2:] for word in side]])
-        self.assertEqual(desk.say("meets"), told)
+        self.assertEqual(desk.say("meets"), self.parting_text(parting(handed, gives)))
         reasons = why(handed, gives)
         told = [f"{name} {reasons[name][0]} {' '.join(reasons[name][1])}" for name in sorted(reasons)]
         self.assertEqual(desk.say("stands"), "; ".join(told) or "-")
@@ -299,6 +296,54 @@ class Whole(Answers):
                 if number == 0 or told[-1] != text:
                     told.append(text)
             self.assertEqual(desk.say(f"hear {name} {' '.join(item_text(thing) for thing in heard_row)}"), " ".join(told))
+
+    def test_after_changes_of_all_kinds(self):
+        stood = parted = 0
+        for seed in range(80):
+            chance = random.Random(seed)
+            handed = some_score(chance)
+            changes = some_changes(chance, handed)
+            desk = Desk(show_score(handed))
+            for time, deed in changes:
+                desk.say(f"go {self.time_text(time)}")
+                desk.say(" ".join(word if isinstance(word, str) else self.time_text(word) for word in deed))
+            probes = {name: [pair(length * at / 5) for at in range(5)] for name, length in
+                      [(there[0], walked_marks(handed, there[0])[1]) for there in handed[2]]}
+            hall = Hall(handed, changes, probes)
+            stuck = [name for name in probes if hall.log[name] and hall.log[name][-1][4] is None]
+            found = desk.say("stands")
+            self.assertEqual([] if found == "-" else [text.split(" ")[0] for text in found.split("; ")], stuck)
+            self.assertEqual(desk.say("meets"), self.parting_text(plain_parting(handed, changes, Hall)))
+            self.rows_and_places(desk, handed, hall, probes, plain_sounds(handed, changes, Hall))
+            stood += len(stuck)
+            parted += desk.say("meets") != "all"
+        self.assertGreater(min(stood, parted), 20)
+
+    def rows_and_places(self, desk, handed, hall, probes, told):
+        for name in probes:
+            for voice in range(4):
+                rows = desk.say(f"row {name} {voice}").split("; ")
+                mine = [f"{self.time_text(row[0])} {self.time_text(row[1])} {'.'.join(map(str, row[4]))}"
+                        for row in told if row[2:4] == (name, voice)]
+                self.assertEqual([text for text in rows if not text.endswith(" -") and text != "-"], mine)
+            begins = [sum(fraction(size) for size in sizes) for sizes in self.sizes_ahead(handed, name)]
+            for place in probes[name]:
+                time = hall.probed(name, "early", place)
+                if time is not None and max(time) < 10 ** 12 and begins:
+                    number = max(at for at, begin in enumerate(begins) if begin <= fraction(place))
+                    self.assertEqual(desk.say(f"where {name} {self.time_text(time)}"),
+                                     f"{number} {fraction(place) - begins[number]}")
+
+    def sizes_ahead(self, handed, name):
+        entries = line(handed, name)
+        sizes = [entries[at][1][1] for at in walk(handed, name)]
+        return [sizes[:at] for at in range(len(sizes))]
+
+    def parting_text(self, found):
+        if found is None:
+            return "all"
+        sides = [f"{name} {number} {self.time_text(time)}" for name, number, time in found[2:]]
+        return f"{found[0]} {found[1]} {' '.join(sides)}"
 
     def test_played_as_a_player_plays(self):
         for seed in range(60):

@@ -3,37 +3,13 @@ import random
 import unittest
 
 from making import (
-    HALF, NOUGHT, ONE, TWO, Stage, bar, clock, filled, meet, one_part, pace, pair, part, repeat, rest, score,
-    sign, some_gives, some_score, turn, use, voiced, wait, walked_marks, whole,
+    HALF, NOUGHT, ONE, TWO, bar, clock, filled, meet, one_part, pace, part, plain_parting, repeat, rest, score, sign,
+    some_gives, some_score, turn, use, voiced, wait, whole,
 )
 
 from manyclocks.errors import TooLong
 from manyclocks.meetings import parting
 from manyclocks.scores import checked
-
-
-def plain_parting(handed, gives):
-    """The first parting, of all that the plain stage shows."""
-    stage = Stage(handed, gives)
-    meetings = {}
-    for name in stage.log:
-        come = [row[3] for row in stage.log[name] if row[1][0] == "meet" and row[4] is not None]
-        marks = [row for row in walked_marks(handed, name)[0] if row[1][0] == "meet"]
-        for number, (place, mark, in_bar) in enumerate(marks):
-            k = [row[1] for row in marks[:number + 1]].count(mark)
-            time = come[number] if number < len(come) else None
-            meetings.setdefault((mark[1], k), []).append((time is None, time or 0, name, in_bar))
-    rows = []
-    for (word, k), comers in meetings.items():
-        comers.sort()
-        others = [row for row in comers if row[:2] != comers[0][:2]]
-        if others:
-            rows.append((comers[0][1], word, k, told(comers[0]), told(others[0])))
-    return min(rows)[1:] if rows else None
-
-
-def told(comer):
-    return comer[2], comer[3], None if comer[0] else pair(comer[1])
 
 
 class Meetings(unittest.TestCase):
