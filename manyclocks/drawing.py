@@ -2,7 +2,7 @@
 
 from manyclocks.courses import led
 from manyclocks.errors import Unlike
-from manyclocks.fractions import order_of
+from manyclocks.fractions import by_times
 from manyclocks.things import uses_of
 
 
@@ -58,11 +58,6 @@ def awaited(course, names):
     return told
 
 
-def give_order(give):
-    """What gives are sorted by."""
-    return (order_of(give[0]), give[1], give[2])
-
-
 def wants(score, gives, names):
     """The gives with which the parts of these names, drawn out, sound as in the score."""
     course = led(score, gives)
@@ -71,4 +66,4 @@ def wants(score, gives, names):
         if giver in course.runs and giver not in names:
             times = course.given.get((giver, call), [])
             told.extend([(time, giver, call) for time in times])
-    return sorted(told, key=give_order)
+    return by_times(told, 1)

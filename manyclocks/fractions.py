@@ -75,28 +75,22 @@ def earlier(one, other):
     return one if less(one, other) else other
 
 
-def order_of(fraction):
-    """A tuple of whole numbers: of two fractions the less one has the less tuple, so they can be sorted by it."""
-    top, bottom = fraction
-    told = []
-    # The fraction is a + 1 / (b + 1 / (c + ..)): it grows with a and c, and falls as b grows.
-    sign = 1
-    while bottom != 0:
-        whole = top // bottom
-        told.append(sign * whole)
-        top, bottom = bottom, top - whole * bottom
-        sign = -sign
-    # A tuple that goes on counts as greater, which is right behind an odd number of terms: so of an even one the last
-    # term, b, is told as b - 1 and 1, for b is (b - 1) + 1 / 1.
-    if len(told) % 2 == 0:
-        told[-1] += 1
-        told.append(1)
-    return tuple(told)
+def ranks_of(times):
+    """A whole number for each of the times, of the less one of two the less number, of None the greatest one."""
+    there = [time for time in times if time is not None]
+    bottom = max([time[1] for time in there], default=1)
+    # Unlike fractions with bottoms up to this one are at least 1 / scale apart: so they have unlike whole parts if
+    # each is taken scale times.
+    scale = bottom * bottom
+    told = {time: time[0] * scale // time[1] for time in there}
+    told[None] = max([told[time] for time in there], default=0) + 1
+    return told
 
 
-def time_order(time):
-    """A tuple by which times can be sorted, None behind all."""
-    return (1,) if time is None else (0, order_of(time))
+def by_times(rows, many):
+    """The rows sorted, of each the first so many things being times, None behind all."""
+    ranks = ranks_of([time for row in rows for time in row[:many]])
+    return sorted(rows, key=lambda row: ([ranks[time] for time in row[:many]], row[many:]))
 
 
 def is_fraction(thing):

@@ -1,7 +1,7 @@
 """Meetings: where parts must meet, and the first one where they part."""
 
 from manyclocks.courses import led
-from manyclocks.fractions import time_order
+from manyclocks.fractions import by_times
 
 
 def part_meetings(run):
@@ -16,23 +16,12 @@ def part_meetings(run):
 
 
 def meetings_of(course):
-    """Who is to meet: lists of (name, number of the bar, time) by (x, k)."""
+    """Who is to meet: lists of (time, name, number of the bar) by (x, k)."""
     told = {}
     for name in course.runs:
         for word, count, number, time in part_meetings(course.runs[name]):
-            told.setdefault((word, count), []).append((name, number, time))
+            told.setdefault((word, count), []).append((time, name, number))
     return told
-
-
-def comer_order(comer):
-    """What those who come to a meeting are sorted by: time, then name."""
-    return (time_order(comer[2]), comer[0])
-
-
-def meeting_order(meeting):
-    """What meetings where parts part are sorted by: the least time, then x, then k."""
-    word, count, one, other = meeting
-    return (time_order(one[2]), word, count)
 
 
 def parting_of(course):
@@ -40,11 +29,14 @@ def parting_of(course):
     told = []
     meetings = meetings_of(course)
     for word, count in meetings:
-        comers = sorted(meetings[(word, count)], key=comer_order)
-        others = [comer for comer in comers if comer[2] != comers[0][2]]
+        comers = by_times(meetings[(word, count)], 1)
+        others = [comer for comer in comers if comer[0] != comers[0][0]]
         if others:
-            told.append((word, count, comers[0], others[0]))
-    return min(told, key=meeting_order, default=None)
+            told.append((comers[0][0], word, count, comers[0], others[0]))
+    if not told:
+        return None
+    time, word, count, one, other = by_times(told, 1)[0]
+    return (word, count, (one[1], one[2], one[0]), (other[1], other[2], other[0]))
 
 
 def parting(score, gives):

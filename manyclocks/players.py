@@ -2,7 +2,7 @@
 
 from manyclocks.changes import Play
 from manyclocks.errors import NoDeed, NoTime
-from manyclocks.fractions import NOUGHT, is_above_nought, less, time_order
+from manyclocks.fractions import NOUGHT, by_times, is_above_nought, less
 from manyclocks.items import is_form, is_name
 from manyclocks.sounds import sounds_of
 
@@ -18,11 +18,6 @@ def is_deed(play, thing):
     return False
 
 
-def event_order(event):
-    """What events are sorted by."""
-    return (time_order(event[0]), *event[1:])
-
-
 def events_of(sounds):
     """The events of sounds, sorted: when each goes on, and when it goes off if it does."""
     told = []
@@ -30,7 +25,7 @@ def events_of(sounds):
         told.append((begin, "on", name, voice, pitches))
         if end is not None:
             told.append((end, "off", name, voice, pitches))
-    return sorted(told, key=event_order)
+    return by_times(told, 1)
 
 
 class Player:

@@ -2,7 +2,7 @@
 
 from manyclocks.bars import MOST_VOICES, voice_of
 from manyclocks.courses import led, moments
-from manyclocks.fractions import plus, time_order
+from manyclocks.fractions import by_times, plus
 from manyclocks.items import item_length
 
 
@@ -47,11 +47,6 @@ def voice_sounds(course, name, voice):
     return told
 
 
-def sound_order(sound):
-    """What sounds are sorted by."""
-    return (time_order(sound[0]), time_order(sound[1]), *sound[2:])
-
-
 def sounds_of(course):
     """All sounds of a course, sorted."""
     told = []
@@ -59,7 +54,7 @@ def sounds_of(course):
         for voice in range(MOST_VOICES):
             for begin, end, pitches in voice_sounds(course, name, voice):
                 told.append((begin, end, name, voice, pitches))
-    return sorted(told, key=sound_order)
+    return by_times(told, 2)
 
 
 def sounds(score, gives):

@@ -1,7 +1,6 @@
 """Stretches of sounds: what sounds from one time to another."""
 
-from manyclocks.fractions import NOUGHT, less, minus
-from manyclocks.sounds import sound_order
+from manyclocks.fractions import NOUGHT, by_times, less, minus
 
 
 def stretch(told, one, other):
@@ -12,4 +11,4 @@ def stretch(told, one, other):
             first = minus(begin, one) if less(one, begin) else NOUGHT
             last = minus(other if end is None or less(other, end) else end, one)
             cut.append((first, last, name, voice, pitches))
-    return sorted(cut, key=sound_order)
+    return by_times(cut, 2)

@@ -4,7 +4,7 @@ from fractions import Fraction
 from making import fraction, odd_things, pair, plain_things
 
 from manyclocks.fractions import (
-    earlier, is_fraction, later, less, minus, order_of, over, part, plus, time_order, times,
+    by_times, earlier, is_fraction, later, less, minus, over, part, plus, ranks_of, times,
 )
 
 BIG = 7 ** 400
@@ -86,16 +86,30 @@ class Orders(unittest.TestCase):
         self.assertEqual([earlier((1, 3), (1, 2)), earlier((1, 2), (1, 3))], [(1, 3), (1, 3)])
         self.assertEqual([later((1, 3), (1, 2)), later((1, 2), (1, 3))], [(1, 2), (1, 2)])
 
-    def test_order_of_fractions(self):
+    def test_ranks_of_fractions(self):
         worths = {Fraction(top, bottom) for top in range(-30, 61) for bottom in range(1, 25)}
         worths |= {fraction(one) for one in SOME} | {Fraction(BIG, BIG - 1), Fraction(BIG + 1, BIG)}
-        orders = [order_of(pair(worth)) for worth in sorted(worths)]
-        for low, high in zip(orders, orders[1:]):
-            self.assertLess(low, high)
+        for some in [worths, {Fraction(1, 3), Fraction(1, 2)}, {Fraction(1, 10), Fraction(1, 9)}, {Fraction(7)}]:
+            ranks = ranks_of([pair(worth) for worth in some] * 2)
+            told = [ranks[pair(worth)] for worth in sorted(some)]
+            for low, high in zip(told, [*told[1:], ranks[None]]):
+                self.assertLess(low, high)
 
-    def test_none_is_behind_all(self):
-        times_there = [None, (1, 2), (0, 1), None, (1, 3), (BIG, 1)]
-        self.assertEqual(sorted(times_there, key=time_order), [(0, 1), (1, 3), (1, 2), (BIG, 1), None, None])
+    def test_no_times_at_all(self):
+        self.assertEqual(list(ranks_of([])), [None])
+        self.assertEqual(list(ranks_of([None, None])), [None])
+        self.assertEqual(by_times([], 2), [])
+
+    def test_rows_by_their_times(self):
+        rows = [(None, "b"), ((1, 2), "c"), ((0, 1), "d"), (None, "a"), ((1, 3), "e"), ((BIG, 1), "f"), ((1, 2), "b")]
+        before = list(rows)
+        self.assertEqual([row[1] for row in by_times(rows, 1)], list("debcfab"))
+        self.assertEqual(rows, before)
+
+    def test_rows_by_several_times(self):
+        rows = [((1, 2), None, "a"), ((1, 2), (2, 1), "b"), ((1, 3), None, "c"), ((1, 2), (10, 1), "d"),
+                ((1, 2), (2, 1), "a")]
+        self.assertEqual([row[2] for row in by_times(rows, 2)], list("cabda"))
 
 
 class IsFraction(unittest.TestCase):
